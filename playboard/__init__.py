@@ -1,0 +1,1 @@
+"""Playboard: board games told by rules, and worked out from their ends."""
