@@ -35,6 +35,17 @@ WORDS_OUT = re.compile(
 )
 
 
+LAZY = set("zip enumerate reversed range".split())
+LAZY_METHODS = set("items keys values".split())
+LAZY_TAKERS = set("list tuple dict sorted sum any all enumerate zip".split())
+KEYWORDS = {
+    "sorted": {"key", "reverse"}, "min": {"key", "default"}, "max": {"key", "default"}, "sum": {"start"},
+    "enumerate": {"start"}, "zip": {"strict"},
+}
+READERS = set("len sorted list tuple dict min max sum any all enumerate zip reversed".split())
+READING_METHODS = set("get index count items keys values copy".split())
+
+
 def sources():
     return sorted(path for path in PACKAGE.rglob("*") if "__pycache__" not in path.parts)
 
@@ -49,6 +60,21 @@ def nodes():
 
 def of_kind(kind):
     return [(path, node) for path, node in nodes() if isinstance(node, kind)]
+
+
+def parents_in(tree):
+    return {child: node for node in ast.walk(tree) for child in ast.iter_child_nodes(node)}
+
+
+def called(node):
+    """The name of the function that a call calls, else None."""
+    return node.func.id if isinstance(node, ast.Call) and isinstance(node.func, ast.Name) else None
+
+
+def is_walked_by(node, parent):
+    if isinstance(parent, (ast.For, ast.comprehension)):
+        return node is parent.iter
+    return False
 
 
 def bound_names(node):
@@ -200,6 +226,100 @@ class TestForm(unittest.TestCase):
             self.assertNotEqual(free, [], drawn)
             for name in free:
                 drawn.pop(name)
+
+    def test_sets_are_asked_on_the_spot(self):
+        for path, tree in trees():
+            parents = parents_in(tree)
+            for node in ast.walk(tree):
+                if isinstance(node, ast.Set) or called(node) in ("set", "frozenset"):
+                    above = parents[node]
+                    while isinstance(above, ast.BinOp):
+                        above = parents[above]
+                    if isinstance(above, ast.Compare):
+                        allowed = (ast.In, ast.NotIn, ast.Eq, ast.NotEq)
+                        self.assertTrue(all(isinstance(part, allowed) for part in above.ops), self.told(path, node, "set"))
+                    else:
+                        self.assertIn(called(above), ("sorted", "len"), self.told(path, node, "set"))
+                        self.assertEqual(above.keywords, [], self.told(path, node, "set"))
+
+    def test_walks_are_not_kept(self):
+        for path, tree in trees():
+            parents = parents_in(tree)
+            for node in ast.walk(tree):
+                by_method = isinstance(node, ast.Call) and isinstance(node.func, ast.Attribute)
+                if called(node) in LAZY or (by_method and node.func.attr in LAZY_METHODS):
+                    self.assertTrue(self.walked_at_once(node, parents[node]), self.told(path, node, "walk"))
+
+    def walked_at_once(self, node, parent):
+        if is_walked_by(node, parent):
+            return True
+        if called(parent) in LAZY_TAKERS:
+            return called(parent) == "zip" or parent.args[0] is node
+        if called(parent) in ("min", "max"):
+            return parent.args == [node]
+        if isinstance(parent, ast.Call) and isinstance(parent.func, ast.Attribute):
+            return parent.func.attr == "join" and isinstance(parent.func.value, ast.Constant)
+        return False
+
+    def test_keywords(self):
+        for path, node in of_kind(ast.Call):
+            if called(node) in BUILTINS or isinstance(node.func, ast.Attribute) and node.func.attr in METHODS:
+                names = {keyword.arg for keyword in node.keywords}
+                self.assertLessEqual(names, KEYWORDS.get(called(node), set()), self.told(path, node, "keyword"))
+
+    def test_pythons_own_are_called_not_kept(self):
+        for path, tree in trees():
+            parents = parents_in(tree)
+            for node in ast.walk(tree):
+                if isinstance(node, ast.Name) and node.id in BUILTINS:
+                    above = parents[node]
+                    while isinstance(above, ast.Tuple):
+                        above = parents[above]
+                    at_isinstance = called(above) == "isinstance"
+                    allowed = (ast.ClassDef, ast.ExceptHandler, ast.Raise, ast.keyword, ast.Attribute)
+                    right = called(above) == node.id or at_isinstance or isinstance(above, allowed)
+                    self.assertTrue(right, self.told(path, node, node.id))
+
+    def test_locals_are_called_otherwise_than_imports_and_classes(self):
+        for path, tree in trees():
+            taken = {name for node in tree.body if isinstance(node, (ast.ImportFrom, ast.ClassDef)) for name in bound_names(node)}
+            for top in tree.body:
+                parts = [node for node in ast.walk(top) if isinstance(node, (ast.arg, ast.Name, ast.ExceptHandler))]
+                names = {name for node in parts for name in bound_names(node)}
+                self.assertEqual(names & taken, set(), self.told(path, top, "local"))
+
+    def test_lists_and_dicts_of_a_top_are_only_read(self):
+        for path, tree in trees():
+            tops = [node for node in tree.body if isinstance(node, ast.Assign)]
+            kept = {node.targets[0].id for node in tops if isinstance(node.value, (ast.List, ast.Dict))}
+            for node in tops:
+                inner = [part for part in ast.walk(node.value) if isinstance(part, (ast.List, ast.Dict))]
+                self.assertLessEqual(len(inner), 1, self.told(path, node, "list within"))
+                self.assertFalse(any(isinstance(part, ast.Call) for part in ast.walk(node.value)), self.told(path, node, "call"))
+            parents = parents_in(tree)
+            for node in ast.walk(tree):
+                if isinstance(node, ast.Name) and node.id in kept and isinstance(node.ctx, ast.Load):
+                    self.assertTrue(self.only_read(node, parents[node]), self.told(path, node, node.id))
+
+    def only_read(self, node, parent):
+        if isinstance(parent, ast.Subscript):
+            return isinstance(parent.ctx, ast.Load) and parent.value is node
+        if isinstance(parent, ast.Attribute):
+            return parent.attr in READING_METHODS
+        return isinstance(parent, ast.Compare) or is_walked_by(node, parent) or called(parent) in READERS
+
+    def test_errors_are_taken_by_name(self):
+        narrow = {"ValueError", "LookupError", "IndexError"}
+        for path, node in of_kind(ast.Try):
+            self.assertEqual(node.finalbody, [], self.told(path, node, "finally"))
+            for handler in node.handlers:
+                self.assertIsNotNone(handler.type, self.told(path, handler, "except"))
+                names = {part.id for part in ast.walk(handler.type) if isinstance(part, ast.Name)}
+                self.assertEqual(names & {"Exception", "TypeError"}, set(), self.told(path, handler, "except"))
+                if names & narrow:
+                    calls = [part for body in node.body for part in ast.walk(body) if isinstance(part, ast.Call)]
+                    allowed = {called(part) for part in calls} - {"int", "str"}
+                    self.assertEqual(allowed - {None}, set(), self.told(path, handler, "except"))
 
     def test_top_of_each_file(self):
         for path, tree in trees():
