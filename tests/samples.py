@@ -69,6 +69,52 @@ def games():
     return [hunt(), bare(), wide_one(), draughts(), riders(), strip()]
 
 
+STEPS = [(across, up) for across in (-1, 0, 1) for up in (-1, 0, 1) if (across, up) != (0, 0)]
+
+
+def chase():
+    """Wins that take many moves, and places that are even: who takes the k has won."""
+    rules = [("k", "leap", "any", across, up) for across, up in STEPS]
+    rules += [("r", "slide", "any", across, up) for across, up in STEPS if across * up == 0]
+    return Game(Board(4, 3, []), ["k", "r"], rules, [], [("without", "k")], "even")
+
+
+def race():
+    """No move goes back, so nothing is even: who first turns a piece has won."""
+    rules = [("p", "leap", "go", 0, 1), ("p", "leap", "hit", 1, 1), ("p", "leap", "hit", -1, 1)]
+    return Game(Board(4, 4, []), ["p", "q"], rules, [("p", "q")], [("home", "q")], "lost")
+
+
+def tag():
+    """Round a hole, one kind alone."""
+    rules = [("a", "leap", "any", across, up) for across, up in STEPS]
+    return Game(Board(3, 3, [4]), ["a"], rules, [], [("without", "a")], "lost")
+
+
+def crowns():
+    """Draughts that end by the stuck word alone."""
+    game = draughts()
+    return Game(game.board, game.kinds, game.rules, game.turns, [], "lost")
+
+
+def pushing():
+    """Who can't move has won."""
+    rules = [("a", "leap", "go", 0, 1), ("a", "leap", "go", 1, 0), ("b", "jump", "hit", 0, 1), ("b", "leap", "go", 0, 1)]
+    return Game(Board(3, 3, [2]), ["a", "b"], rules, [("a", "b")], [("home", "a")], "won")
+
+
+def played():
+    """Games with places whose webs have all words, and few enough places."""
+    return [
+        (chase(), ("KR.........k", 0)), (chase(), ("K......r..k.", 1)), (race(), ("PPP..........ppp", 0)),
+        (race(), ("P.P..........p.p", 1)), (tag(), ("A...#...a", 0)), (tag(), ("AA..#..aa", 1)),
+        (crowns(), ("M..............m....", 0)), (crowns(), ("..M............m....", 1)), (pushing(), ("A.#a.Baa.", 1)),
+        (pushing(), ("A.#.A.aa.", 0)), (hunt(), ("#PkPrMP#kppK", 1)), (hunt(), ("#MKR.Pp#kkmm", 0)),
+        (strip(), ("aAaAA#", 1)), (draughts(), ("......d.......D..mM.", 0)), (bare(), ("z", 1)),
+        (riders(), ("GGh#n...gSnS#.jGj.J...NJ.", 0)), (strip(), ("ABbaa#", 0)),
+    ]
+
+
 def places(game, many):
     """Places from empty to full, the same ones each time."""
     chance = random.Random(many)
@@ -120,3 +166,67 @@ def moves_by_columns(game, place):
     mine = str.isupper if side == 0 else str.islower
     starts = [square for square in range(len(row)) if mine(row[square])]
     return [(start,) + pair for start in starts for pair in pairs_by_columns(game, row, start)]
+
+
+def done_by_signs(game, place, move):
+    """The place behind a move, told sign by sign."""
+    row, side = place
+    start, goal, taken = move
+    signs = list(row)
+    sign = signs[start]
+    line = goal // game.board.wide
+    if line == (game.board.high - 1 if side == 0 else 0):
+        for kind, other in game.turns:
+            if sign.lower() == kind:
+                sign = other.upper() if side == 0 else other
+                break
+    signs[start] = "."
+    if taken != -1:
+        signs[taken] = "."
+    signs[goal] = sign
+    return ("".join(signs), 1 - side)
+
+
+def ending_by_signs(game, place):
+    """How a place ends, told by counting signs."""
+    row, side = place
+    wide, high = game.board.wide, game.board.high
+    far = [row[wide * (high - 1):], row[:wide]]
+    for word, kind in game.ends:
+        signs = [kind.upper(), kind]
+        mine, theirs = signs[side], signs[1 - side]
+        if word == "without":
+            fates = [row.count(mine) == 0, row.count(theirs) == 0]
+        else:
+            fates = [far[1 - side].count(theirs) > 0, far[side].count(mine) > 0]
+        if any(fates):
+            return "lost" if fates[0] else "won"
+    return None if moves_by_columns(game, place) else game.stuck
+
+
+def followers_by_signs(game, place):
+    if ending_by_signs(game, place) is not None:
+        return []
+    return [done_by_signs(game, place, move) for move in moves_by_columns(game, place)]
+
+
+def places_by_signs(game, starts):
+    """All places that are come to, in a web's order."""
+    told = list(dict.fromkeys(starts))
+    there = set(told)
+    for place in told:
+        for follower in followers_by_signs(game, place):
+            if follower not in there:
+                there.add(follower)
+                told.append(follower)
+    return told
+
+
+def follows(word, others):
+    """Whether a word follows from those of the followers, asked word by word."""
+    lost = {n for name, n in others if name == "lost"}
+    if lost:
+        return word == ("won", 1 + sorted(lost)[0])
+    if any(name == "even" for name, _ in others):
+        return word == ("even", 0)
+    return word == ("lost", 1 + sorted(n for _, n in others)[-1])

@@ -6,28 +6,9 @@ from playboard.errors import NoMove
 from playboard.games import Game
 from playboard.moves import done, moves
 from playboard.places import is_place
-from samples import fields_of, games, hunt, moves_by_columns, places
+from samples import done_by_signs, fields_of, games, hunt, moves_by_columns, places
 
 ALL_WAYS = [("a", "leap", "any", across, up) for across in (-1, 0, 1) for up in (-1, 0, 1) if (across, up) != (0, 0)]
-
-
-def done_by_signs(game, place, move):
-    """The place behind a move, told sign by sign."""
-    row, side = place
-    start, goal, taken = move
-    signs = list(row)
-    sign = signs[start]
-    line = goal // game.board.wide
-    if line == (game.board.high - 1 if side == 0 else 0):
-        for kind, other in game.turns:
-            if sign.lower() == kind:
-                sign = other.upper() if side == 0 else other
-                break
-    signs[start] = "."
-    if taken != -1:
-        signs[taken] = "."
-    signs[goal] = sign
-    return ("".join(signs), 1 - side)
 
 
 class TestMoves(unittest.TestCase):
