@@ -7,6 +7,10 @@ def holder_of(place, word):
     return 1 - place[1] if word[0] == "lost" else place[1]
 
 
+def ways_by_plan(nexts, known, words, number, holds):
+    return best(nexts, known, words, number)[:1] if holds else nexts[number]
+
+
 def plan(web, words, number):
     nexts = web.nexts()
     known = web.known()
@@ -16,10 +20,10 @@ def plan(web, words, number):
     waiting = [number]
     while waiting:
         here = waiting.pop()
-        ways = nexts[here]
-        # A place that is over has no followers, so it needs no plan.
-        if ways and web.places[here][1] == holder:
-            ways = best(nexts, known, words, here)[:1]
+        holds = web.places[here][1] == holder
+        ways = ways_by_plan(nexts, known, words, here, holds)
+        # None are there of a place that is over.
+        if holds and ways:
             chosen[here] = ways[0]
         for way in ways:
             if way not in seen:
