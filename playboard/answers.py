@@ -2,7 +2,7 @@
 
 from playboard.backwards import worked
 from playboard.best import best, line
-from playboard.ends import followers
+from playboard.ends import ending
 from playboard.errors import NoMove, NothingBack, Over, TooWide
 from playboard.matches import Match
 from playboard.moves import moves
@@ -58,7 +58,7 @@ def line_length(question):
 def told_of_moves(bout):
     place = bout.here()
     # A place that is over may have moves, but no followers.
-    return joined(move_texts(bout.game, place) if followers(bout.game, place) else [])
+    return joined(move_texts(bout.game, place) if ending(bout.game, place) is None else [])
 
 
 def told_of_outcome(bout):

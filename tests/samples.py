@@ -129,6 +129,34 @@ def places(game, many):
     return told
 
 
+def rule_by_chance(chance, kinds):
+    sort = chance.choice(["leap", "leap", "slide", "jump"])
+    longest = 3 if sort == "leap" and chance.random() < 0.2 else 1
+    steps = [(across, up) for across in range(-longest, longest + 1) for up in range(-longest, longest + 1)]
+    steps.remove((0, 0))
+    aim = "hit" if sort == "jump" else chance.choice(["go", "hit", "any", "any"])
+    return (chance.choice(kinds), sort, aim) + chance.choice(steps)
+
+
+def game_by_chance(chance):
+    wide, high = chance.choice([(1, 4), (2, 2), (3, 2), (2, 3), (3, 3), (4, 2), (5, 1)])
+    holes = [square for square in range(1, wide * high) if chance.random() < 0.12]
+    kinds = chance.sample("abcdk", chance.randint(1, 3))
+    rules = [rule_by_chance(chance, kinds) for _ in range(chance.randint(2, 12))]
+    turns = [(kind, kinds[0]) for kind in kinds[1:] if chance.random() < 0.5]
+    ends = [(chance.choice(["without", "home"]), chance.choice(kinds)) for _ in range(chance.randint(0, 3))]
+    return Game(Board(wide, high, holes), kinds, rules, turns, ends, chance.choice(["lost", "even", "won"]))
+
+
+def place_by_chance(chance, game):
+    """A place with one to four pieces, as far as there is room."""
+    row = ["#" if square in game.board.holes else "." for square in range(game.board.wide * game.board.high)]
+    free = game.board.squares()
+    for square in chance.sample(free, chance.randint(1, min(4, len(free)))):
+        row[square] = chance.choice(game.kinds + [kind.upper() for kind in game.kinds])
+    return ("".join(row), chance.randrange(2))
+
+
 def stands(game, row, column, line):
     """What stands there: its sign, "#" off the board too."""
     wide, high = game.board.wide, game.board.high

@@ -42,6 +42,7 @@ KEYWORDS = {
     "sorted": {"key", "reverse"}, "min": {"key", "default"}, "max": {"key", "default"}, "sum": {"start"},
     "enumerate": {"start"}, "zip": {"strict"},
 }
+CHANGING_METHODS = set("append clear extend insert pop remove reverse setdefault update".split())
 READERS = set("len sorted list tuple dict min max sum any all enumerate zip reversed".split())
 READING_METHODS = set("get index count items keys values copy".split())
 
@@ -260,6 +261,28 @@ class TestForm(unittest.TestCase):
         if isinstance(parent, ast.Call) and isinstance(parent.func, ast.Attribute):
             return parent.func.attr == "join" and isinstance(parent.func.value, ast.Constant)
         return False
+
+    def test_what_a_loop_walks_is_not_changed_in_it(self):
+        for path, node in of_kind(ast.For):
+            walked = {ast.unparse(part) for part in ast.walk(node.iter) if isinstance(part, (ast.Name, ast.Attribute, ast.Subscript))}
+            for part in [inner for body in node.body for inner in ast.walk(body)]:
+                changed = None
+                if isinstance(part, ast.Call) and isinstance(part.func, ast.Attribute) and part.func.attr in CHANGING_METHODS:
+                    changed = part.func.value
+                elif isinstance(part, ast.Subscript) and isinstance(part.ctx, ast.Store):
+                    changed = part.value
+                if changed is not None and called(node.iter) not in ("list", "range"):
+                    self.assertNotIn(ast.unparse(changed), walked, self.told(path, part, "changed in its loop"))
+
+    def test_methods_are_called_where_they_stand(self):
+        own = {part.name for _, node in of_kind(ast.ClassDef) for part in node.body if isinstance(part, ast.FunctionDef)}
+        for path, tree in trees():
+            parents = parents_in(tree)
+            for node in ast.walk(tree):
+                if isinstance(node, ast.Attribute) and node.attr in own | METHODS:
+                    above = parents[node]
+                    right = isinstance(above, ast.Call) and above.func is node
+                    self.assertTrue(right, self.told(path, node, node.attr))
 
     def test_keywords(self):
         for path, node in of_kind(ast.Call):
